@@ -1,0 +1,1 @@
+"""Risefall: rows told by their rises and falls alone."""
