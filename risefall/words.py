@@ -38,13 +38,18 @@ def ways_behind(ways, letter):
     return list(accumulate(ways[::-1]))[::-1] + [0]
 
 
-def count(word):
-    """Tell how many orders have the word."""
-    check_word(word)
+def ways_of(word):
+    """Tell by the last number how many orders of the word end with it."""
     ways = [1]
     for letter in word:
         ways = ways_behind(ways, letter)
-    return sum(ways)
+    return ways
+
+
+def count(word):
+    """Tell how many orders have the word."""
+    check_word(word)
+    return sum(ways_of(word))
 
 
 def word_of(row):

@@ -41,6 +41,9 @@ BARRED_WORDS = (
 DEFINED = {
     "errors.py": {"RiseError", "BadWord", "BadNumber", "BadOrder", "BadRow"},
     "words.py": {"count", "word_of"},
+    "orders.py": {"order_of", "number_of"},
+    "answers.py": {"Zigzag"},
+    "zigzag.py": {"longest"},
 }
 
 
@@ -190,6 +193,23 @@ class Code(unittest.TestCase):
                  for name, tree in trees()}
         for name, names in DEFINED.items():
             self.assertLessEqual(names, found[name], name)
+
+    def test_a_class_defines_its_listed_methods_in_its_own_body(self):
+        tree = dict(trees())["answers.py"]
+        methods = [inner.name for node in tree.body if isinstance(node, ast.ClassDef)
+                   and node.name == "Zigzag" for inner in node.body
+                   if isinstance(inner, ast.FunctionDef)]
+        self.assertEqual(methods, ["__init__", "shows"])
+
+    def test_no_two_files_import_from_each_other(self):
+        brings = {"risefall." + name.removesuffix(".py"): {
+            node.module for node in tree.body if isinstance(node, ast.ImportFrom)}
+            for name, tree in trees()}
+        while brings:
+            ready = [name for name in brings if not brings[name] & set(brings)]
+            self.assertTrue(ready, sorted(brings))
+            for name in ready:
+                del brings[name]
 
 
 if __name__ == "__main__":
